@@ -536,14 +536,52 @@ func TestExamples(t *testing.T) {
 func TestAskedByMany(t *testing.T) {
 	functions, making = [lastOp + 1]function{}, sync.Once{}
 	var all sync.WaitGroup
-	got := make([]uint64, 16)
+	got := make([]bool, 16)
 	for i := range got {
-		all.Go(func() { got[i], _, _ = Binary(0x89, 3, uint64(i)) })
+		all.Go(func() { _, _, got[i] = Sig(0x79 + i) })
 	}
 	all.Wait()
-	for i, v := range got {
-		if v != 3<<i {
-			t.Errorf("by %d: %#x", i, v)
+	for i, ok := range got {
+		if !ok {
+			t.Errorf("%#x is no instruction", 0x79+i)
+		}
+	}
+}
+
+// The functions that are kept stand beside what the calls reckon: they must not part from it.
+func TestKeptFunctions(t *testing.T) {
+	rules := table()
+	Sig(0)
+	for op, f := range functions {
+		r, ok := rules[op]
+		if ok != (f != nil) {
+			t.Fatalf("%#x has a function: %v", op, f != nil)
+		}
+		if !ok {
+			continue
+		}
+		forPairs(func(a, b uint64) {
+			want, wantTrap, _ := Binary(op, a, b)
+			if len(r.takes) == 1 {
+				want, _ = Unary(op, a)
+			}
+			if v, trap := f(a, b); v != want || trap != wantTrap {
+				t.Errorf("%#x of %#x, %#x: %#x, %d", op, a, b, v, trap)
+			}
+		})
+	}
+}
+
+// Unary and Binary must tell the same, whether the functions have been made or not.
+func TestReckonedWithoutKeptFunctions(t *testing.T) {
+	functions, making = [lastOp + 1]function{}, sync.Once{}
+	for _, r := range table() {
+		r.check(t, 0x123456789abcdef0, 0xfedcba9876543210)
+		r.check(t, 7, 0)
+	}
+	for op, f := range functions {
+		if f != nil {
+			t.Errorf("%#x has a function, and none was asked for", op)
 		}
 	}
 }
