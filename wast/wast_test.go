@@ -63,11 +63,21 @@ func TestFormOfEveryByte(t *testing.T) {
 	}
 }
 
+// What nums takes for an instruction is of FormPlain, and the plain ones that it does not take are those that the chapter's table names one by one.
 func TestFormOfReckoningBytes(t *testing.T) {
-	for op := range 256 {
-		if _, _, ok := nums.Sig(op); ok && Form(op) != FormPlain {
-			t.Errorf("Form(%#x): %d", op, Form(op))
+	others := []int{0x00, 0x01, 0x0f, 0x1a, 0x1b, 0x3f, 0x40}
+	count := 0
+	for op := -1 << 10; op <= 1<<10; op++ {
+		_, _, reckons := nums.Sig(op)
+		if reckons {
+			count++
 		}
+		if plain := Form(op) == FormPlain; plain != (reckons || slices.Contains(others, op)) {
+			t.Errorf("Form(%#x): %d; nums takes it for an instruction: %v", op, Form(op), reckons)
+		}
+	}
+	if count != 0x5b-0x45+0x8b-0x67+3 {
+		t.Error("nums takes", count, "numbers for instructions")
 	}
 }
 
