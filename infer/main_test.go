@@ -2,6 +2,7 @@ package infer
 
 import (
 	"fmt"
+	"math/rand"
 	"slices"
 	"strings"
 	"testing"
@@ -99,7 +100,9 @@ func checkAll(t *testing.T, p api.Program) (string, api.Fault) {
 // wantType holds the program against its type's text.
 func wantType(t *testing.T, s, want string) {
 	t.Helper()
-	if got, fault := checkAll(t, mustRead(s)); fault != (api.Fault{}) || got != want {
+	p := mustRead(s)
+	checkExpanded(t, rand.New(rand.NewSource(int64(len(s)))), p)
+	if got, fault := checkAll(t, p); fault != (api.Fault{}) || got != want {
 		t.Errorf("%.2000s\nis %.300s, %v, not %.300s", s, got, fault, want)
 	}
 }
@@ -117,12 +120,14 @@ func marked(s string) (string, int) {
 func wantFault(t *testing.T, s string, want api.Errno) {
 	t.Helper()
 	s, at := marked(s)
-	if _, fault := checkAll(t, mustRead(s)); fault != (api.Fault{Code: want, At: at}) {
+	p := mustRead(s)
+	checkExpanded(t, rand.New(rand.NewSource(int64(len(s)))), p)
+	if _, fault := checkAll(t, p); fault != (api.Fault{Code: want, At: at}) {
 		t.Errorf("%.2000s\nis %v, not %v at %d", s, fault, want, at)
 	}
 }
 
-// types is lines of a program and its type, with ":: " between; the program may be told a fault instead: "!occurs", with an @ at its place.
+// table asks for lines of a program and its type, with ":: " between; the program may be told a fault instead: "!occurs", with an @ at its place.
 func table(t *testing.T, lines ...string) {
 	t.Helper()
 	for _, line := range lines {

@@ -189,7 +189,7 @@ func asItStood(n *node, stand map[*node]*node) *node {
 	return out
 }
 
-// reader has the types that there are.
+// plainReader has the types that there are.
 type plainReader struct{ decls []api.Decl }
 
 // made is the type of a constructor with fresh variables, and the constructor's fields with these.
