@@ -76,6 +76,7 @@ func (e edge) check(t *testing.T) {
 
 // TestMostNodes: just MaxTypes nodes may a type have, written out, and no more: of the first of a let, of a rec, of Main, and of what Unify binds a variable to.
 func TestMostNodes(t *testing.T) {
+	t.Parallel()
 	for _, e := range []edge{
 		{1023, "let y = @D x in fun l -> 1", "many"},
 		{511, "let y = @P x (D x) in fun l -> 1", "many"},
@@ -121,6 +122,7 @@ func TestMostNodes(t *testing.T) {
 
 // TestAsItStands: a type that is handed to Unify may have no more than MaxTypes nodes as it stands, wherever that is.
 func TestAsItStands(t *testing.T) {
+	t.Parallel()
 	for _, e := range []edge{
 		{1022, "fun l -> (@fun z -> 1) x", "arg"},
 		{1020, "fun l -> (@fun z -> 1) (fun y -> x)", "arg"},
@@ -168,6 +170,7 @@ func TestAsItStands(t *testing.T) {
 
 // TestMainAtMost: Main's type is counted ahead of its unification with that of a program, and behind.
 func TestMainAtMost(t *testing.T) {
+	t.Parallel()
 	of := func(n int, s string) string {
 		return sizedTypes + "@let rec bot z = bot z in " + ints("x", n) + s
 	}

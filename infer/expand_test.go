@@ -264,6 +264,7 @@ func checkExpanded(t *testing.T, r *rand.Rand, p api.Program) bool {
 
 // TestExpanded: a program has the type that it has without schemes.
 func TestExpanded(t *testing.T) {
+	t.Parallel()
 	r := rand.New(rand.NewSource(61))
 	done := 0
 	for i := range 2500 {

@@ -196,6 +196,7 @@ func TestPatternParts(t *testing.T) {
 
 // TestFaultWithin: a fault within each kind is told with its own place and error, whatever is behind it.
 func TestFaultWithin(t *testing.T) {
+	t.Parallel()
 	for _, f := range faulteds() {
 		for i := range f.things {
 			e := f.of(1 << i)

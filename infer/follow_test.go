@@ -138,6 +138,7 @@ func texts() []string {
 
 // TestRenamed: the type hangs neither on the names of what is bound, nor on places.
 func TestRenamed(t *testing.T) {
+	t.Parallel()
 	r := rand.New(rand.NewSource(162))
 	for _, s := range texts() {
 		checkRenamed(t, r, mustRead(s))
@@ -247,6 +248,7 @@ func typed() []api.Expr {
 
 // TestUnused: a let whose Name does not stand in its second, and whose first has a type, changes no type.
 func TestUnused(t *testing.T) {
+	t.Parallel()
 	r := rand.New(rand.NewSource(163))
 	for _, s := range texts() {
 		checkUnused(t, r, mustRead(s), typed())

@@ -10,6 +10,7 @@ import (
 
 // TestGrown: programs of all kinds of types, with now and then something of another type.
 func TestGrown(t *testing.T) {
+	t.Parallel()
 	r := rand.New(rand.NewSource(16))
 	counts := map[api.Errno]int{}
 	places, types := map[int]int{}, map[string]int{}

@@ -20,6 +20,8 @@ func TestExamples(t *testing.T) {
 		"let rec f x = f x in fun l -> f 1 :: list int -> 'a",
 		"fun l -> 1 / 0 :: list int -> int",
 		"fun l -> case l of Nil -> 1 end :: list int -> int",
+		// That of README.md.
+		"fun l -> let id = fun x -> x in Cons (id 1) (id l) :: list int -> list int",
 	)
 }
 
@@ -129,6 +131,7 @@ func checkWithin(t *testing.T, x inner, fits bool) {
 
 // TestWithin: each kind alone, within each place of each other kind, and of one more around that.
 func TestWithin(t *testing.T) {
+	t.Parallel()
 	for _, in := range inners() {
 		checkWithin(t, in, true)
 		for _, o := range outers() {

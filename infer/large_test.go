@@ -203,6 +203,7 @@ func TestWide(t *testing.T) {
 
 // TestManyTaken: a scheme with as many open variables as may be, taken as often as may be; and as many that are not open.
 func TestManyTaken(t *testing.T) {
+	t.Parallel()
 	fine := func(s string) {
 		t.Helper()
 		p := mustRead(sizedDecls + sized("x", 1021, 1, "bot 1") + s)
